@@ -217,22 +217,3 @@ func TestFramesAreFresh(t *testing.T) {
 		t.Errorf("P2: what Frames gave is not fresh: %v", two)
 	}
 }
-
-func TestEachFrameStopsWhenNobodyAsks(t *testing.T) {
-	frames := []api.Frame{{Channel: 1, Data: "a"}, {Channel: 2}, {Channel: 3, Data: "bc", Last: true}}
-	s := dataOf(frames...)[1:]
-	for most := 1; most <= len(frames); most++ {
-		var got []api.Frame
-		end := 0
-		for at, f := range eachFrame(s + "none") {
-			got = append(got, f)
-			end = at
-			if len(got) == most {
-				break
-			}
-		}
-		if !slices.Equal(got, frames[:most]) || end != len(dataOf(frames[:most]...))-1 {
-			t.Errorf("P5: of %d frames asked for, eachFrame gave %v, ending at %d", most, got, end)
-		}
-	}
-}

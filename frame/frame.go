@@ -1,4 +1,7 @@
-package derive
+// Package frame: the frames of a transaction, gone through one by one: see
+// DOC.md. It stands beside package derive because what draws a lower chain
+// needs them as well.
+package frame
 
 import (
 	"iter"
@@ -13,15 +16,16 @@ const (
 	lastSize = 1         // whether it is its channel's last one
 )
 
-// Frames reads the frames of a transaction (P5).
-func Frames(data string) ([]api.Frame, bool) {
+// All is the frames of the Data of a transaction, if they are frames and
+// nothing else.
+func All(data string) ([]api.Frame, bool) {
 	if data == "" || data[0] != opening {
 		return nil, false
 	}
 	rest := data[1:]
 	var frames []api.Frame
 	end := 0
-	for at, f := range eachFrame(rest) {
+	for at, f := range Each(rest) {
 		frames = append(frames, f)
 		end = at
 	}
@@ -31,13 +35,13 @@ func Frames(data string) ([]api.Frame, bool) {
 	return frames, true
 }
 
-// eachFrame gives the frames that stand in s, one behind the other, up to the
+// Each gives the frames that stand in s, one behind the other, up to the
 // first bytes that are none; with each, where in s it ends.
-func eachFrame(s string) iter.Seq2[int, api.Frame] {
+func Each(s string) iter.Seq2[int, api.Frame] {
 	return func(yield func(int, api.Frame) bool) {
 		end := 0
 		for {
-			f, n, ok := firstFrame(s[end:])
+			f, n, ok := first(s[end:])
 			if !ok {
 				return
 			}
@@ -49,8 +53,8 @@ func eachFrame(s string) iter.Seq2[int, api.Frame] {
 	}
 }
 
-// firstFrame is the frame with which s begins, and how long it is.
-func firstFrame(s string) (api.Frame, int, bool) {
+// first is the frame with which s begins, and how long it is.
+func first(s string) (api.Frame, int, bool) {
 	if len(s) < headSize {
 		return api.Frame{}, 0, false
 	}
