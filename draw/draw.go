@@ -4,6 +4,7 @@
 package draw
 
 import (
+	"iter"
 	"slices"
 
 	"tributary/api"
@@ -45,8 +46,20 @@ func (c *Chain) Take(b api.Upper) {
 	}
 }
 
-// Next draws the next lower block, if the upper blocks taken give one.
-func (c *Chain) Next() (api.Lower, bool) {
+// Drawn draws the lower blocks that the upper blocks taken give, one by one.
+// Those that nobody asks for come the next time.
+func (c *Chain) Drawn() iter.Seq[api.Lower] {
+	return func(yield func(api.Lower) bool) {
+		for l, ok := c.next(); ok; l, ok = c.next() {
+			if !yield(l) {
+				return
+			}
+		}
+	}
+}
+
+// next draws the next lower block, if there is one.
+func (c *Chain) next() (api.Lower, bool) {
 	if len(c.upper) == 0 {
 		return api.Lower{}, false
 	}

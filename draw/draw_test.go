@@ -26,7 +26,7 @@ func hello(n int) string {
 }
 
 func TestNothingIsDrawnOfNoBlocks(t *testing.T) {
-	if l, ok := New(config).Next(); ok || !reflect.DeepEqual(l, api.Lower{}) {
+	for l := range New(config).Drawn() {
 		t.Errorf("P6: %+v is drawn of no blocks", l)
 	}
 }
@@ -36,10 +36,10 @@ func TestBlocksComeOneByOne(t *testing.T) {
 	var l []api.Lower
 	for n := range 5 {
 		c.Take(api.Upper{Id: n, Time: 3 * n})
-		for x, ok := c.Next(); ok; x, ok = c.Next() {
+		for x := range c.Drawn() {
 			l = append(l, x)
 		}
-		if x, ok := c.Next(); ok {
+		for x := range c.Drawn() {
 			t.Errorf("P6: with block %d %+v comes behind the last one", n, x)
 		}
 	}
@@ -49,6 +49,30 @@ func TestBlocksComeOneByOne(t *testing.T) {
 	}
 	if !reflect.DeepEqual(l, want) {
 		t.Errorf("P6: %+v", l)
+	}
+}
+
+func TestBlocksThatNobodyAskedForComeTheNextTime(t *testing.T) {
+	c := New(config)
+	for n := range 9 {
+		c.Take(api.Upper{Time: 3 * n})
+	}
+	drawn := 0
+	for more := true; more; {
+		more = false
+		for l := range c.Drawn() {
+			if l.Number != drawn {
+				t.Errorf("P6: %d blocks have come, and then %+v", drawn, l)
+			}
+			drawn++
+			more = true
+			if drawn%2 == 0 {
+				break
+			}
+		}
+	}
+	if drawn != 10 {
+		t.Errorf("P6: %d blocks have come", drawn)
 	}
 }
 
